@@ -136,7 +136,7 @@ func after(t *testing.T, tree *Tree, room int) []*Tree {
 	return out
 }
 
-// TestAllShapes holds P6.2 and P6.3 of each shape that a tree of up to 13 keys can come to, and of each call at it: whatever comes and goes.
+// TestAllShapes holds P6.2 and P6.3 of each shape that a tree which never has more than 13 keys can come to, and of each call at it: whatever comes and goes.
 func TestAllShapes(t *testing.T) {
 	const room = 13
 	seen := map[string]int{}
